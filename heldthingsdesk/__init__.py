@@ -1,0 +1,1 @@
+"""What happens to what is held: dividends, splits, spin-offs, rights, take-overs."""
