@@ -241,7 +241,7 @@ class ChooseTest(unittest.TestCase):
             got = tell(told, today(5), choose(1, 8), today(6), choose(1, 9), choose(1, 9))
             self.assertEqual(got, [1, 0, 3, 0, -9, -9])
 
-    def test_it_may_be_before_the_ex_day_or_behind_the_pay_day(self):
+    def test_it_may_be_before_the_ex_day(self):
         self.assertEqual(tell(rights(1, 5, 5, 3, 1, 1, 0, 0, 3), today(3), choose(1, 8))[-1], 3)
 
     def test_order(self):
