@@ -62,6 +62,24 @@ class Entitlement:
         self.due = due
 
 
+def first_price(action):
+    """The rate, the price for parts, the right's price, or the cash for each of a take-over."""
+    if action.kind == DIVIDEND:
+        return action.rate
+    if action.kind == TAKEOVER:
+        return action.for_each
+    return action.price
+
+
+def second_price(action):
+    """What has to be paid for each right, or a take-over's price for parts; the others have none."""
+    if action.kind == RIGHTS:
+        return action.for_each
+    if action.kind == TAKEOVER:
+        return action.price
+    return 0
+
+
 def over_million_up(amount):
     # // rounds down, so it rounds up on the other side of 0.
     return -(-amount // MILLION)

@@ -5,8 +5,9 @@ Each call answers a list of numbers: one below 0 if it refuses, and then it has 
 
 from heldthingsdesk.actions import Action, DIVIDEND, RIGHTS, SPINOFF, SPLIT, TAKEOVER
 from heldthingsdesk.ledger import Trade, are_possible
-from heldthingsdesk.limits import FULL, MOST_ACTIONS, MOST_TRADES, NOT_FITTING, NOT_THERE, OUT_OF_RANGE
-from heldthingsdesk.limits import PAY_TOO_EARLY, QUANTITY_IMPOSSIBLE, TOLD_ALREADY, TOO_LATE, are_within
+from heldthingsdesk.limits import FULL, MOST_ACTIONS, MOST_PRICES, MOST_TRADES, NOT_FITTING, NOT_THERE
+from heldthingsdesk.limits import OUT_OF_RANGE, PAY_TOO_EARLY, QUANTITY_IMPOSSIBLE, TOLD_ALREADY, TOO_LATE
+from heldthingsdesk.prices import Price, is_priced
 
 
 class Desk:
@@ -14,6 +15,7 @@ class Desk:
         self.today = 0
         self.trades = []
         self.actions = []
+        self.prices = []
 
 
 def tell_begin(desk, told):
@@ -21,6 +23,7 @@ def tell_begin(desk, told):
     desk.today = new.today
     desk.trades = new.trades
     desk.actions = new.actions
+    desk.prices = new.prices
     return [0]
 
 
@@ -109,7 +112,16 @@ def tell_choose(desk, told):
     return [action.choice]
 
 
-CALLS = {
+def tell_price(desk, told):
+    if is_priced(desk.prices, told["day"], told["thing"]):
+        return [TOLD_ALREADY]
+    if len(desk.prices) >= MOST_PRICES:
+        return [FULL]
+    desk.prices = desk.prices + [Price(told)]
+    return [0]
+
+
+TELLINGS = {
     0: tell_begin,
     1: tell_today,
     2: tell_trade,
@@ -119,11 +131,9 @@ CALLS = {
     6: tell_rights,
     7: tell_takeover,
     8: tell_choose,
+    9: tell_price,
 }
 
 
-def answer(desk, call, told):
-    # Each call tells this refusal before its others, so they may count on numbers within range.
-    if not are_within(told):
-        return [OUT_OF_RANGE]
-    return CALLS[call](desk, told)
+def tell(desk, call, told):
+    return TELLINGS[call](desk, told)

@@ -48,6 +48,42 @@ def choose(number, choice):
     return [8, number, choice]
 
 
+def price(day, thing, each):
+    return [9, day, thing, each]
+
+
+def position(day, thing):
+    return [10, day, thing]
+
+
+def positions(day):
+    return [11, day]
+
+
+def cash(day):
+    return [12, day]
+
+
+def due(day):
+    return [13, day]
+
+
+def value(day):
+    return [14, day]
+
+
+def entitled(number):
+    return [15, number]
+
+
+def action(number):
+    return [16, number]
+
+
+def counts():
+    return [17]
+
+
 def joined(calls):
     return [number for call in calls for number in call]
 
@@ -61,12 +97,35 @@ def taken_apart(flat):
     return rows
 
 
-def tell(*calls):
-    """The answers to the calls, which all are of one number."""
+def rows_of(*calls):
+    """The answers to the calls, each a list of numbers."""
     rows = taken_apart(answers(joined(calls)))
     assert len(rows) == len(calls), rows
+    return rows
+
+
+def tell(*calls):
+    """The answers to the calls, which all are of one number."""
+    rows = rows_of(*calls)
     assert all(len(row) == 1 for row in rows), rows
     return [row[0] for row in rows]
+
+
+def ask(told, *questions):
+    """The answers to questions, asked after all that was told was let in."""
+    rows = rows_of(*told, *questions)
+    assert all(row[0] >= 0 for row in rows[:len(told)]), rows
+    return rows[len(told):]
+
+
+def all_questions(days, actions):
+    """Every question about these days and about as many actions: all that can be seen from outside."""
+    asked = [counts()]
+    for day in days:
+        asked += [positions(day), cash(day), due(day), value(day)]
+    for number in range(1, actions + 1):
+        asked += [entitled(number), action(number)]
+    return asked
 
 
 def last_of(*calls):
@@ -87,7 +146,7 @@ def book(calls, evening):
 
 
 def dues(calls, evening):
-    return [(due.pay, due.cash, due.thing, due.quantity) for due in book(calls, evening).dues]
+    return [(one.pay, one.cash, one.thing, one.quantity) for one in book(calls, evening).dues]
 
 
 def full_of(thing):
